@@ -11,29 +11,44 @@ import (
 	"arcade/asm"
 )
 
+// instructions are those of an opcode with some numbers behind it.
+func instructions(number int, o opText) [][]byte {
+	if number >= 256 {
+		return [][]byte{{203, byte(number)}}
+	}
+	if o.text == "stop" {
+		return [][]byte{{byte(number), 0}}
+	}
+	var all [][]byte
+	for _, behind := range [][]byte{{0x00, 0x00}, {0x7f, 0x12}, {0x80, 0xff}, {0xff, 0x80}} {
+		all = append(all, append([]byte{byte(number)}, behind...)[:o.size(number)])
+	}
+	return all
+}
+
 func TestP23TextAlone(t *testing.T) {
-	numbers := [][]byte{{0x00, 0x00}, {0x7f, 0x12}, {0x80, 0xff}, {0xff, 0x80}}
+	t.Parallel()
 	for number, o := range writtenOnce() {
 		if o.text == "" {
 			continue
 		}
-		code := append([]byte{byte(number)}, numbers[number%4]...)
-		if number >= 256 {
-			code = []byte{203, byte(number)}
-		} else if o.text == "stop" {
-			code[1] = 0
-		}
-		code = code[:o.size(number)]
-		for _, org := range []int{0, 1000, 65536 - len(code)} {
-			ins, e := asm.Disasm(code, 0, org)
-			if e != api.OK || ins.Bytes != len(code) {
-				t.Fatalf("P2.3: Disasm(% x, 0, %d) = %+v, %d", code, org, ins, e)
-			}
-			m := mustAssemble(t, fmt.Sprintf("org %d\n%s", org, ins.Text))
-			if m.Org != org || !bytes.Equal(m.Code, code) {
-				t.Fatalf("P2.3: % x at %d is %q, and that is % x at %d", code, org, ins.Text, m.Code, m.Org)
+		for _, code := range instructions(number, o) {
+			for _, org := range []int{0, 1000, 65536 - len(code)} {
+				textAlone(t, code, org)
 			}
 		}
+	}
+}
+
+func textAlone(t *testing.T, code []byte, org int) {
+	t.Helper()
+	ins, e := asm.Disasm(code, 0, org)
+	if e != api.OK || ins.Bytes != len(code) {
+		t.Fatalf("P2.3: Disasm(% x, 0, %d) = %+v, %d", code, org, ins, e)
+	}
+	m := mustAssemble(t, fmt.Sprintf("org %d\n%s", org, ins.Text))
+	if m.Org != org || !bytes.Equal(m.Code, code) {
+		t.Fatalf("P2.3: % x at %d is %q, and that is % x at %d", code, org, ins.Text, m.Code, m.Org)
 	}
 }
 

@@ -82,12 +82,13 @@ func TestP22DisasmAll(t *testing.T) {
 	all := writtenOnce()
 	r := rand.New(rand.NewSource(1))
 	for number := range 65536 {
-		code := []byte{byte(number), byte(number >> 8), byte(r.Intn(256)), byte(r.Intn(256))}
-		length := 1 + number%4
-		code = code[:length]
-		for _, org := range []int{0, 100, 336, 65536 - length} {
-			if got, e := asm.Disasm(code, 0, org); got != wantIns(all, code, org) || e != api.OK {
-				t.Fatalf("P2.2: Disasm(% x, 0, %d) = %+v, %d, want %+v", code, org, got, e, wantIns(all, code, org))
+		whole := []byte{byte(number), byte(number >> 8), byte(r.Intn(256)), byte(r.Intn(256))}
+		for length := 1; length <= len(whole); length++ {
+			code := whole[:length]
+			for _, org := range []int{r.Intn(60000), 65536 - length} {
+				if got, e := asm.Disasm(code, 0, org); got != wantIns(all, code, org) || e != api.OK {
+					t.Fatalf("P2.2: Disasm(% x, 0, %d) = %+v, %d, want %+v", code, org, got, e, wantIns(all, code, org))
+				}
 			}
 		}
 	}
