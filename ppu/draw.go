@@ -45,8 +45,8 @@ func (p *PPU) drawLine() {
 	}
 	from := int(p.registers[ly]) * api.Wide
 	points := p.drawn[from : from+api.Wide]
-	for x, number := range numbers {
-		points[x] = colour(p.registers[bgp], number)
+	for x, n := range numbers {
+		points[x] = colour(p.registers[bgp], n)
 	}
 	if p.has(spritesOn) {
 		p.drawSprites(points, &numbers)

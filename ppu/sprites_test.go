@@ -142,7 +142,7 @@ func TestG4SpritesOff(t *testing.T) {
 	shows(t, "G4", "without bit 1", frame, 0, 0, digits("0", 160))
 }
 
-// line of sprites: so many of one row, side by side, of tile 4.
+// side is so many sprites of one row, side by side, of tile 4.
 func side(many, row, column int) []int {
 	var list []int
 	for i := range many {
@@ -178,11 +178,11 @@ func TestG4Ten(t *testing.T) {
 	shows(t, "G4", "the eleventh of high ones, line 16", frame, 0, 16, digits("0", 8)) // tile 5 is all 0
 	list = append(side(10, 16, 80), 24, 8, 4, 0)
 	shows(t, "G4", "of another line", drawn(t, cast(list...), 0x92), 0, 8, "11111111")
-	var clear []int
+	var empty []int
 	for range 10 {
-		clear = append(clear, 16, 8, 5, 0)
+		empty = append(empty, 16, 8, 5, 0)
 	}
-	shows(t, "G4", "behind ten of which nothing is seen", drawn(t, cast(append(clear, 16, 8, 4, 0)...), 0x92), 0, 0, "00000000")
+	shows(t, "G4", "behind ten of which nothing is seen", drawn(t, cast(append(empty, 16, 8, 4, 0)...), 0x92), 0, 0, "00000000")
 }
 
 // TestG4LastOfTable: the last of the table counts, alone or as the tenth.
