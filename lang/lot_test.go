@@ -48,7 +48,7 @@ func (l *lot) program(size int) []string {
 		case 0:
 			l.variables = append(l.variables, names[i])
 		case 1:
-			l.arrays[names[i]] = []int{1, 2, 3, 4, 7, 100, 128}[l.Intn(7)]
+			l.arrays[names[i]] = []int{1, 2, 3, 4, 7, 50, 70}[l.Intn(7)]
 		default:
 			l.functions[names[i]] = l.Intn(4) * l.Intn(3)
 		}
@@ -420,7 +420,7 @@ func TestL1L2L3L4ByLot(t *testing.T) {
 		t.Run(strconv.FormatInt(part, 10), func(t *testing.T) {
 			t.Parallel()
 			kinds := map[int]int{}
-			for i := range int64(150) {
+			for i := range int64(90) {
 				source, in := lotProgram(part*1000 + i)
 				right(t, source)
 				r := holdsWithin(t, source, in, 2000)
